@@ -46,9 +46,11 @@ FITS = {
     "number": lambda thing: is_int(thing, 0, 10 ** 30),
     "count": lambda thing: thing is None or is_int(thing, 0, 10 ** 30),
     "stamp": lambda thing: is_int(thing, 1, 10 ** 30),
+    "one": lambda thing: is_int(thing, 1, 1),
     "limit": lambda thing: is_int(thing, 1, 1000),
     "truth": lambda thing: thing is True or thing is False,
     "text": lambda thing: thing in ("", " ", "-", "no such thing") if isinstance(thing, str) else False,
+    "things": lambda thing: isinstance(thing, tuple) and len(thing) == 0,
     "other": lambda thing: False,
 }
 
@@ -70,3 +72,19 @@ def spoilt(good, kinds):
 def by_names(function, **named):
     """What a call tells by its names, in each order of these."""
     return [function(**dict(order)) for order in permutations(list(named.items()))]
+
+
+class Reckoned:
+    """Numbers that seem to come by chance, but are reckoned: of like seeds always alike."""
+
+    def __init__(self, seed):
+        self.now = seed * 7919 + 12345
+
+    def below(self, many):
+        """The next number below so many."""
+        self.now = (self.now * 6364136223846793005 + 1442695040888963407) % 2 ** 64
+        return (self.now >> 33) % many
+
+    def one_of(self, choices):
+        """The next one of a list or tuple."""
+        return choices[self.below(len(choices))]

@@ -11,6 +11,7 @@ PACKAGE = pathlib.Path(__file__).resolve().parent.parent / "watchednodes"
 VALUES = {
     "paths": {"NOWHERE": (0, 0)},
     "nodes": {"MOST_NODES": 60, "MOST_TEXT": 40},
+    "watchers": {"KINDS": ("text", "there", "kids")},
 }
 FUNCTIONS = {
     "paths": {
@@ -25,6 +26,29 @@ FUNCTIONS = {
         "is_deed": "(thing)", "is_entry": "(thing)", "first_state": "()",
         "done": "(state, entry, *, place)",
     },
+    "rows": {
+        "is_row": "(thing)", "state_of": "(row)", "told_by": "(row)", "is_beginning": "(one, other)",
+        "up_to": "(row, place)", "behind": "(row, place)", "last_place": "(row)",
+    },
+    "letters": {"is_letter": "(thing)"},
+    "houses": {"most_of": "(members)"},
+    "watchers": {"is_watcher": "(thing)"},
+}
+# Each method stands in the body of its class itself.
+CLASSES = {
+    "houses": {"House": {
+        "__init__": "(self, name, members, *, looks='all')", "seek": "(self)", "beat": "(self)",
+        "take": "(self, letter)", "put": "(self, entry)", "put_once": "(self, entry)",
+        "hear_of": "(self, asker)", "begin_anew": "(self)", "called": "(self)", "members": "(self)",
+        "role": "(self)", "head": "(self)", "promised": "(self)", "epoch": "(self)", "done": "(self)",
+        "clock": "(self)", "row": "(self)", "done_row": "(self)", "synced": "(self)", "state": "(self)",
+        "is_settled": "(self)", "twin": "(self)",
+    }},
+    "watchers": {"Watchers": {
+        "__init__": "(self)", "lay": "(self, asker, kind, path)", "let_go": "(self, asker)",
+        "meet": "(self, place, events)", "anew": "(self, asker, watchers, told)", "kept": "(self)",
+        "twin": "(self)", "__len__": "(self)", "__eq__": "(self, other)",
+    }},
 }
 
 
@@ -44,6 +68,16 @@ class TestInterface(unittest.TestCase):
                     self.assertTrue(inspect.isfunction(function))
                     self.assertEqual(function.__module__, "watchednodes." + module)
                     self.assertEqual(str(inspect.signature(function)), arguments)
+
+    def test_classes(self):
+        for module, table in CLASSES.items():
+            file = importlib.import_module("watchednodes." + module)
+            for name, methods in table.items():
+                told = getattr(file, name)
+                self.assertEqual((told.__module__, told.__bases__), ("watchednodes." + module, (object,)))
+                for method, arguments in methods.items():
+                    with self.subTest(name=name, method=method):
+                        self.assertEqual(str(inspect.signature(vars(told)[method])), arguments)
 
     def test_values(self):
         for module, table in VALUES.items():
