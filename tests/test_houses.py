@@ -10,7 +10,7 @@ from tests.woven import FIVE, ONE, THREE, ask, behaved, following, leading, numb
 from watchednodes.errors import NoEntry, NoHouse, NoLetter, NoLooks, NoMembers, NotHead
 from watchednodes.houses import House, most_of
 from watchednodes.paths import NOWHERE
-from watchednodes.rows import state_of
+from watchednodes.rows import state_of, told_by
 from watchednodes.states import first_state
 
 SEVEN = ("ann", "bea", "cyd", "dot", "eve", "fay", "gus")
@@ -190,6 +190,10 @@ class TestAllIsNew(unittest.TestCase):
     def test_state_is_that_of_the_done_row(self):
         for house in houses():
             self.assertEqual(house.state(), state_of(house.done_row()))
+            self.assertEqual(house.told(), told_by(house.done_row()))
+            for _, _, events in house.told():
+                events.append("x")
+            self.assertEqual(house.told(), told_by(house.done_row()))
             self.assertEqual(house.done_row(), [placed for placed in house.row() if placed[0] <= house.done()])
 
     def test_state_as_it_goes_on(self):

@@ -33,6 +33,7 @@ FUNCTIONS = {
     "letters": {"is_letter": "(thing)"},
     "houses": {"most_of": "(members)"},
     "watchers": {"is_watcher": "(thing)"},
+    "judging": {"first_amiss": "(row, asker, heard, laid)", "are_beginnings": "(rows)"},
 }
 # Each method stands in the body of its class itself.
 CLASSES = {
@@ -48,6 +49,23 @@ CLASSES = {
         "__init__": "(self)", "lay": "(self, asker, kind, path)", "let_go": "(self, asker)",
         "meet": "(self, place, events)", "anew": "(self, asker, watchers, told)", "kept": "(self)",
         "twin": "(self)", "__len__": "(self)", "__eq__": "(self, other)",
+    }},
+    "readers": {"Reader": {
+        "__init__": "(self, name, members, *, looks='all')", "house": "(self)", "seek": "(self)", "beat": "(self)",
+        "take": "(self, letter)", "hear": "(self, letter)", "begin_anew": "(self)", "watchers": "(self)",
+        "waiting": "(self)", "met": "(self)", "state": "(self)", "done": "(self)", "twin": "(self)",
+    }},
+    "askers": {"Asker": {
+        "__init__": "(self, word)", "move": "(self, house)", "ask": "(self, deed)",
+        "read": "(self, kind, path, *, watch=False)", "touch": "(self)", "again": "(self)", "hear": "(self, letter)",
+        "answers": "(self)", "reads": "(self)", "events": "(self)", "heard": "(self)", "watchers": "(self)",
+        "seen": "(self)", "is_busy": "(self)", "called": "(self)", "at": "(self)", "twin": "(self)",
+    }},
+    "worlds": {"World": {
+        "__init__": "(self, members, *, looks='all')", "weave": "(self, rows)", "calm": "(self, rounds)",
+        "letters": "(self)", "askers": "(self)", "stopped": "(self)", "members": "(self)", "house": "(self, name)",
+        "asker": "(self, word)", "unheard": "(self, word)", "laid": "(self, word)", "twin": "(self)",
+        "__len__": "(self)",
     }},
 }
 

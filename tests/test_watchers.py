@@ -7,7 +7,7 @@ from tests.helper import Stranger, Unlike, by_names, spoilt, things
 from tests.test_paths import NO_PATHS, NO_WORDS, PATHS, WORDS
 from tests.woven import ask
 from watchednodes.rows import behind, told_by
-from watchednodes.watchers import KINDS, Watchers, is_watcher
+from watchednodes.watchers import KINDS, Watchers, is_laid_by, is_met, is_watcher, value_of
 
 MET_BY = {"text": ("text", "gone"), "there": ("made", "text", "gone"), "kids": ("kids", "gone")}
 HERE = (3, 4)
@@ -44,6 +44,25 @@ class TestIsWatcher(unittest.TestCase):
         for thing in ("bob", ("bob", "text"), ("text", "/a"), ("bob", "/a", "text"), ("text", "bob", "/a"),
                       ("bob", "text", "/a", (0, 0)), ["bob", "text", "/a"], {"bob", "text", "/a"}):
             self.assertIs(is_watcher(thing), False, repr(thing))
+
+
+class TestReads(unittest.TestCase):
+
+    def test_values(self):
+        nodes = {"/": ("r", 2, 3, None), "/b": ("t", 0, 1, None), "/a": ("", 1, 0, "bob"), "/b/c": ("x", 4, 0, None)}
+        self.assertEqual([value_of(nodes, kind, "/") for kind in KINDS], [("r", 2), True, ("a", "b")])
+        self.assertEqual([value_of(nodes, kind, "/a") for kind in KINDS], [("", 1), True, ()])
+        self.assertEqual([value_of(nodes, kind, "/b") for kind in KINDS], [("t", 0), True, ("c",)])
+        self.assertEqual([value_of(nodes, kind, "/c") for kind in KINDS], [None, False, None])
+
+    def test_laid_by(self):
+        for kind, value, lays in (("text", None, False), ("kids", None, False), ("there", False, True),
+                                  ("there", True, True), ("text", ("", 0), True), ("kids", (), True)):
+            self.assertIs(is_laid_by(kind, value), lays)
+
+    def test_met(self):
+        for kind, word, path in itertools.product(KINDS, ("made", "text", "gone", "kids"), ("/a", "/b")):
+            self.assertIs(is_met(kind, "/a", (word, path)), path == "/a" and word in MET_BY[kind])
 
 
 class TestKept(unittest.TestCase):

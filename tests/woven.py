@@ -3,6 +3,7 @@
 from watchednodes.houses import House, most_of
 from watchednodes.letters import is_letter
 from watchednodes.paths import NOWHERE
+from watchednodes.readers import Reader
 
 ONE = ("ann",)
 THREE = ("ann", "bea", "cyd")
@@ -24,25 +25,30 @@ def numbered(epoch, many):
     return tuple([(epoch, k + 1) for k in range(many)])
 
 
-def following(*, name="bea", members=THREE, looks="all", row=(), epoch=1, done=NOWHERE, head="ann"):
-    """A house that follows a head, with this row, epoch and done."""
-    house = House(name, members, looks=looks)
+def house_of(one):
+    """The house of a reader, or a house itself."""
+    return one.house() if isinstance(one, Reader) else one
+
+
+def following(*, name="bea", members=THREE, looks="all", row=(), epoch=1, done=NOWHERE, head="ann", made=House):
+    """A house, or a reader, that follows a head, with this row, epoch and done."""
+    house = made(name, members, looks=looks)
     house.take(("lead", head, name, epoch))
     house.take(("sync", head, name, epoch, "all", NOWHERE, tuple(row), done))
     return house
 
 
-def leading(*, name="ann", members=THREE, row=(), epoch=2, promises=None, synced=None):
-    """A house that leads by an epoch from 2 on, with this row.
+def leading(*, name="ann", members=THREE, row=(), epoch=2, promises=None, synced=None, made=House):
+    """A house, or a reader, that leads by an epoch from 2 on, with this row.
 
     promises are the others' promises with what each told as its last, synced those that are
     synced, with the place up to which each took.
     """
     others = [other for other in members if other != name]
-    house = House(name, members)
+    house = made(name, members)
     if others:
-        house = following(name=name, members=members, row=row, epoch=epoch - 1, head=others[0])
-    while house.promised() < epoch:
+        house = following(name=name, members=members, row=row, epoch=epoch - 1, head=others[0], made=made)
+    while house_of(house).promised() < epoch:
         house.seek()
     synced = {} if synced is None else synced
     if promises is None:

@@ -3,8 +3,8 @@
 from watchednodes.errors import NoEntry, NoHouse, NoLetter, NoLooks, NoMembers, NotHead
 from watchednodes.letters import is_letter
 from watchednodes.paths import NOWHERE, is_word
-from watchednodes.rows import behind, has_place, is_beginning, last_place, next_place, state_behind, up_to
-from watchednodes.states import first_state, is_entry
+from watchednodes.rows import Tale, behind, has_place, last_place, next_place, up_to
+from watchednodes.states import is_entry
 
 _MOST_MEMBERS = 7
 _LOOKS = ("all", "epoch", "none")
@@ -15,7 +15,8 @@ def most_of(members):
     return len(members) // 2 + 1
 
 
-def _are_members(thing):
+def are_members(thing):
+    """Whether anything is members: a tuple of 1 to 7 unlike words."""
     if not isinstance(thing, tuple) or not 1 <= len(thing) <= _MOST_MEMBERS:
         return False
     if not all([is_word(name) for name in thing]):
@@ -27,7 +28,7 @@ class House:
     """One of several houses that keep a row alike."""
 
     def __init__(self, name, members, *, looks="all"):
-        if not _are_members(members):
+        if not are_members(members):
             raise NoMembers()
         if not is_word(name) or name not in members:
             raise NoHouse(name)
@@ -39,10 +40,7 @@ class House:
         self._promised = 0
         self._epoch = 0
         self._row = []
-        # The state behind what was done when it was last asked for: so each thing of the
-        # row need not be done again whenever it is asked for.
-        self._known = []
-        self._state = first_state()
+        self._tale = Tale()
         self.begin_anew()
 
     def begin_anew(self):
@@ -74,8 +72,7 @@ class House:
         other._epoch = self._epoch
         other._row = list(self._row)
         other._done = self._done
-        other._known = self._known
-        other._state = self._state
+        other._tale = self._tale.twin()
         other._role = self._role
         other._head = self._head
         other._seeks_by = self._seeks_by
@@ -133,8 +130,11 @@ class House:
 
     def state(self):
         """The state of its row up to done."""
-        nodes, sessions = self._done_state()
-        return dict(nodes), dict(sessions)
+        return self._done_tale().state()
+
+    def told(self):
+        """What each entry of its row up to done tells: a list of tuples (place, answer, events)."""
+        return self._done_tale().told()
 
     def is_settled(self):
         """Whether it leads, and most are synced."""
@@ -210,18 +210,13 @@ class House:
     def _synced_others(self):
         return [name for name in self._others() if name in self._took]
 
-    def _done_state(self):
-        things = self.done_row()
-        if not is_beginning(self._known, things):
-            self._known = []
-            self._state = first_state()
-        self._state = state_behind(self._state, things[len(self._known):])
-        self._known = things
-        return self._state
+    def _done_tale(self):
+        self._tale.go_on(self.done_row())
+        return self._tale
 
     def _was_done(self, ask):
         """Whether the asker of an ask has its stamp, or a greater one, in the state."""
-        sessions = self._done_state()[1]
+        sessions = self.state()[1]
         _, asker, stamp, _ = ask
         return asker in sessions and sessions[asker][1] >= stamp
 
@@ -372,7 +367,7 @@ class House:
         """A settled head ends each session of whose asker it heard nothing for too long."""
         if not self.is_settled():
             return []
-        sessions = self._done_state()[1]
+        sessions = self.state()[1]
         letters = []
         for asker in sorted([word for word in sessions if sessions[word][0] is not None]):
             # One that was never heard of may have asked another head just ahead of this one.

@@ -30,26 +30,57 @@ def is_row(thing):
     return True
 
 
-def state_behind(state, things):
-    """The state that the things of a row, done by this state, make of it."""
-    for place, entry in things:
-        state = done(state, entry, place=place)[0]
-    return state
+class Tale:
+    """What the things of a row tell, kept: as the row goes on none of them is done again."""
+
+    def __init__(self):
+        self._row = []
+        self._state = first_state()
+        self._told = []
+
+    def go_on(self, row):
+        """It tells of this row from now on."""
+        if not is_beginning(self._row, row):
+            self._row = []
+            self._state = first_state()
+            self._told = []
+        for place, entry in row[len(self._row):]:
+            self._state, answer, events = done(self._state, entry, place=place)
+            self._told.append((place, answer, events))
+        self._row = list(row)
+
+    def state(self):
+        """The state behind all entries of the row."""
+        nodes, sessions = self._state
+        return dict(nodes), dict(sessions)
+
+    def told(self):
+        """What each entry of the row tells: a list of tuples (place, answer, events)."""
+        return [(place, answer, list(events)) for place, answer, events in self._told]
+
+    def twin(self):
+        """A tale that tells the same."""
+        other = Tale()
+        other._row = list(self._row)
+        other._state = self._state
+        other._told = list(self._told)
+        return other
+
+
+def _tale_of(row):
+    tale = Tale()
+    tale.go_on(row)
+    return tale
 
 
 def state_of(row):
     """The state behind all entries of a row."""
-    return state_behind(first_state(), row)
+    return _tale_of(row).state()
 
 
 def told_by(row):
     """What each entry of a row tells: a list of tuples (place, answer, events)."""
-    state = first_state()
-    told = []
-    for place, entry in row:
-        state, answer, events = done(state, entry, place=place)
-        told.append((place, answer, events))
-    return told
+    return _tale_of(row).told()
 
 
 def is_beginning(one, other):

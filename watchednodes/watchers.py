@@ -1,5 +1,6 @@
 """Watchers, tuples (asker, kind, path), each laid once and told once."""
 
+from watchednodes.nodes import kids_of, node_at
 from watchednodes.paths import is_path, is_word
 
 KINDS = ("text", "there", "kids")
@@ -20,9 +21,25 @@ def is_watcher(thing):
     return is_word(asker) and isinstance(kind, str) and kind in KINDS and is_path(path)
 
 
-def _is_met(kind, path, event):
+def is_met(kind, path, event):
+    """Whether a watcher of this kind and path is met by an event."""
     word, changed = event
     return path == changed and word in _MET_BY[kind]
+
+
+def value_of(nodes, kind, path):
+    """What a read of this kind and path tells."""
+    node = node_at(nodes, path)
+    if kind == "there":
+        return node is not None
+    if node is None:
+        return None
+    return node[:2] if kind == "text" else tuple(kids_of(nodes, path))
+
+
+def is_laid_by(kind, value):
+    """Whether a read that tells this value, and is to lay a watcher, lays one."""
+    return kind == "there" or value is not None
 
 
 class Watchers:
@@ -43,7 +60,7 @@ class Watchers:
         """The letters to those that events at a place meet; these are kept no more."""
         letters = []
         for event in events:
-            met = [watcher for watcher in self._kept if _is_met(watcher[1], watcher[2], event)]
+            met = [watcher for watcher in self._kept if is_met(watcher[1], watcher[2], event)]
             for asker, kind, path in sorted(met):
                 letters.append(("event", asker, kind, path, event[0], place))
                 del self._kept[(asker, kind, path)]
@@ -60,7 +77,7 @@ class Watchers:
         letters = []
         for place, _, events in told:
             for event in events:
-                met = [like for like in laid if laid[like] < place and _is_met(like[0], like[1], event)]
+                met = [like for like in laid if laid[like] < place and is_met(like[0], like[1], event)]
                 for kind, path in sorted(met):
                     letters.append(("event", asker, kind, path, event[0], place))
                     del laid[(kind, path)]
