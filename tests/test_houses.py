@@ -204,6 +204,17 @@ class TestAllIsNew(unittest.TestCase):
             self.assertEqual(house.state(), state_of(ROW[:many]))
             self.assertEqual(house.twin().state(), state_of(ROW[:many]))
 
+    def test_twins_tell_their_rows_by_themselves(self):
+        for first in (0, 1, 2):
+            house = following(row=ROW, done=(1, first))
+            self.assertEqual(house.told(), told_by(ROW[:first]))
+            other = house.twin()
+            self.assertEqual(other.told(), told_by(ROW[:first]))
+            for one in (house, other, house.twin()):
+                one.take(("done", "ann", "bea", 1, (1, 3)))
+                self.assertEqual((one.told(), one.state()), (told_by(ROW), state_of(ROW)))
+            self.assertEqual(house.told(), told_by(ROW))
+
     def test_state_of_a_row_that_is_cut_where_it_was_done(self):
         house = following(row=ROW, done=(1, 3))
         self.assertEqual(house.state(), state_of(ROW))

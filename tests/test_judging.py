@@ -98,6 +98,9 @@ class TestAnswers(Judged):
         self.check(None, ("answer", 4, ("bring",), None, (1, 3)), row=row)
         self.check(("answer", 1), ("answer", 4, ("bring",), None, (1, 3)),
                    ("answer", 5, ("bring",), ("ok", None), (1, 2)), row=row)
+        # Places rise, but stamps don't.
+        self.check(("answer", 1), ("answer", 5, ("bring",), ("ok", None), (1, 2)),
+                   ("answer", 4, ("bring",), None, (1, 3)), row=row)
 
     def test_places_of_answers_among_themselves_alone(self):
         self.check(None, told(1, "there", "/a", False, (4, 2)), *BOBS)

@@ -602,6 +602,17 @@ class TestTold(unittest.TestCase):
             world.calm(2)
             self.assertEqual(behaved(other), ahead)
 
+    def test_a_twin_is_calmed_alike(self):
+        for rounds in range(5):
+            world = woven(("seek", "ann"), ("move", "bob", "bea"))
+            world.calm(rounds)
+            world.weave([("ask", "bob", OPEN)])
+            other = world.twin()
+            for one_of_them in (world, other):
+                one_of_them.calm(3)
+            self.assertEqual(shown(other), shown(world))
+            self.assertGreater(len(world), 4)
+
     def test_rows_handed_in_stay(self):
         rows = list(WOVEN)
         world = led()
