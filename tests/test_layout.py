@@ -12,6 +12,7 @@ VALUES = {
     "paths": {"NOWHERE": (0, 0)},
     "nodes": {"MOST_NODES": 60, "MOST_TEXT": 40},
     "watchers": {"KINDS": ("text", "there", "kids")},
+    "weak": {"HOUSES": ("ann", "bea", "cyd")},
 }
 FUNCTIONS = {
     "paths": {
@@ -34,6 +35,15 @@ FUNCTIONS = {
     "houses": {"most_of": "(members)"},
     "watchers": {"is_watcher": "(thing)"},
     "judging": {"first_amiss": "(row, asker, heard, laid)", "are_beginnings": "(rows)"},
+    "recipes": {
+        "number_of": "(part)", "lock_of": "(kids, part)", "first_of": "(kids)", "head_of_group": "(nodes, path)",
+        "barrier_of": "(kids, *, many)",
+    },
+    "weak": {"losing": "(looks)", "unfenced": "()"},
+    "texts": {
+        "show_nodes": "(nodes)", "show_entry": "(entry)", "show_row": "(row)", "read_nodes": "(text)",
+        "read_entry": "(text)", "read_row": "(text)",
+    },
 }
 # Each method stands in the body of its class itself.
 CLASSES = {
@@ -67,6 +77,10 @@ CLASSES = {
         "asker": "(self, word)", "unheard": "(self, word)", "laid": "(self, word)", "twin": "(self)",
         "__len__": "(self)",
     }},
+    "recipes": {"Fence": {
+        "__init__": "(self)", "write": "(self, number, text)", "text": "(self)", "greatest": "(self)", "__len__": "(self)",
+    }},
+    "desk": {"Desk": {"__init__": "(self)", "say": "(self, row)"}},
 }
 
 

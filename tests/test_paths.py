@@ -4,7 +4,7 @@ import unittest
 
 from tests.helper import by_names, spoilt, things
 from watchednodes.paths import (
-    NOWHERE, is_part, is_path, is_place, is_word, last_part, parent_of, parts_of)
+    NOWHERE, is_figures, is_part, is_path, is_place, is_word, last_part, parent_of, parts_of, path_below)
 
 WORDS = ["a", "z", "lock", "abcdefgh", "zzzzzzzz"]
 NO_WORDS = ["", "abcdefghi", "A", "Ab", "aB", "a1", "1", "a-", "-a", "a b", " a", "a ", "a\n",
@@ -51,6 +51,12 @@ class TestTruths(unittest.TestCase):
         self.assertEqual("".join(figures), "0123456789")
         for count in range(12):
             self.assertIs(is_part("a-" + "1" * count), count == 6)
+
+    def test_figures(self):
+        for text in ("0", "7", "0123456789", "000000", "9" * 50):
+            self.assertIs(is_figures(text), True)
+        for text in ("", " ", "a", "1 ", "-1", "+1", "1.0", "\u0661", "\u00b2", "\uff11", "12x"):
+            self.assertIs(is_figures(text), False)
 
     def test_paths(self):
         self.check(is_path, PATHS, NO_PATHS + WORDS + NUMBERED)
@@ -110,6 +116,7 @@ class TestPaths(unittest.TestCase):
             self.assertTrue(is_path(above))
             self.assertTrue(is_part(last_part(path)))
             self.assertEqual(parts_of(above) + [last_part(path)], parts_of(path))
+            self.assertEqual(path_below(above, last_part(path)), path)
 
     def test_by_name(self):
         self.assertEqual(by_names(parent_of, path="/a/b"), ["/a"])

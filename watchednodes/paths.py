@@ -20,6 +20,11 @@ def _is_of(text, signs):
     return all([sign in signs for sign in text])
 
 
+def is_figures(text):
+    """Whether a text has figures alone, and has any."""
+    return text != "" and _is_of(text, _FIGURES)
+
+
 def is_word(thing):
     """Whether anything is a word: 1 to 8 small letters."""
     return isinstance(thing, str) and 1 <= len(thing) <= _MOST_LETTERS and _is_of(thing, _LETTERS)
@@ -32,7 +37,7 @@ def is_part(thing):
     word, dash, figures = thing.partition("-")
     if dash == "":
         return is_word(word)
-    return is_word(word) and len(figures) == _MANY_FIGURES and _is_of(figures, _FIGURES)
+    return is_word(word) and len(figures) == _MANY_FIGURES and is_figures(figures)
 
 
 def is_path(thing):
@@ -59,6 +64,11 @@ def parent_of(path):
 def last_part(path):
     """The last part of a path that isn't the root."""
     return path.rpartition("/")[2]
+
+
+def path_below(path, part):
+    """The path of a child, by its part."""
+    return f"/{part}" if path == ROOT else f"{path}/{part}"
 
 
 def parts_of(path):

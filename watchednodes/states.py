@@ -5,11 +5,11 @@ from watchednodes.nodes import done_plain, first_nodes, is_plain
 from watchednodes.paths import NOWHERE, is_whole, is_word, parent_of
 
 _MOST_LIMIT = 1000
-_MOST_DEEDS = 6
+MOST_DEEDS = 6
 
 
 def _are_plain(thing):
-    if not isinstance(thing, tuple) or not 1 <= len(thing) <= _MOST_DEEDS:
+    if not isinstance(thing, tuple) or not 1 <= len(thing) <= MOST_DEEDS:
         return False
     return all([is_plain(deed) for deed in thing])
 
