@@ -57,7 +57,8 @@ NO_ENTRY_ROWS = [
     "bob.1 all", "bob.1 all ", "bob.1 all 0", "bob.1 all 0 ", "bob.1 all 1", "bob.1 all 2 see / -", "bob.1 all 1 see / - see / -",
     "bob.1 all 7" + " see / -" * 7, "bob.1 all 01 see / -", "bob.1 all 1 close", "bob.1 all 1 bring", "bob.1 all 1 open 5",
     "bob.1 all 1 all 1 see / -", "bob.1 all 2 see / -  see / -", "bob.1 all 1 see / - ", "bob.1 all see / -", "bob.1 all 99999999999999999999 see / -",
-    "bob.1 all 2 put /a - 0 see / -", "bob.1 all 2 put /a - 2 absee / -", "bob.1 all - see / -", "bob.1 see / -\r", "bob.1\tbring", "-", "0"]
+    "bob.1 all 2 put /a - 0 see / -", "bob.1 all 2 put /a - 2 absee / -", "bob.1 all 2 put /a - 1 axsee / -",
+    "bob.1 all 2 make /a no no 0 .see / -", "bob.1 all - see / -", "bob.1 see / -\r", "bob.1\tbring", "-", "0"]
 NO_NODE_ROWS = [
     "", " ", "/a", "/a 0", "/a 0 0", "/a 0 0 -", "/a 0 0 - ", "/a 0 0 - 0", " /a 0 0 - 0 ", "/a  0 0 - 0 ", "/a 0  0 - 0 ", "/a 0 0  - 0 ",
     "/a 0 0 -  0 ", "/a 0 0 - 0  ", "/a 0 0 - 0 x", "/a 0 0 - 1 ", "/a 0 0 - 1 xy", "/a 0 0 - 1 x ", "/a 0 0 - 3 xy", "/a 0 0 - 2  xy",

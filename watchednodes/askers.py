@@ -59,7 +59,7 @@ class Asker:
         other._number = self._number
         other._reading = self._reading
         other._seen = self._seen
-        other._laid = dict(self._laid)
+        other._laid = {like: self._laid[like] for like in self._laid}
         other._heard = _copied(self._heard)
         return other
 
