@@ -4,6 +4,7 @@ import ast
 import importlib
 import inspect
 import pathlib
+import string
 import unittest
 
 PACKAGE = pathlib.Path(__file__).resolve().parent.parent / "watchednodes"
@@ -138,6 +139,13 @@ class TestFiles(unittest.TestCase):
             for part in ast.walk(ast.parse(path.read_text())):
                 if isinstance(part, ast.FunctionDef):
                     self.assertLessEqual(part.end_lineno - part.lineno + 1, 40, part.name)
+
+    def test_names_of_classes_begin_with_a_letter(self):
+        for path in files():
+            for part in ast.walk(ast.parse(path.read_text())):
+                if isinstance(part, ast.ClassDef):
+                    with self.subTest(path.name, name=part.name):
+                        self.assertIn(part.name[0], string.ascii_letters)
 
     def test_imports_are_the_packages_own(self):
         for path in files():

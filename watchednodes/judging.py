@@ -13,7 +13,7 @@ def _is_like(one, other):
     return isinstance(one, bool) == isinstance(other, bool) and one == other
 
 
-class _Judge:
+class Judge:
     """A row, and what must hold of the next thing that an asker hears."""
 
     def __init__(self, row, asker, laid):
@@ -96,7 +96,7 @@ class _Judge:
 
 def first_amiss(row, asker, heard, laid):
     """What is first amiss in what an asker heard: a word and its number, or None."""
-    judge = _Judge(row, asker, laid)
+    judge = Judge(row, asker, laid)
     for k, thing in enumerate(heard):
         word = judge.amiss(thing)
         if word is not None:
